@@ -1,0 +1,77 @@
+import importlib
+import inspect
+import unittest
+
+FUNCTIONS = {
+    "ratios": [
+        "is_sequence(thing)", "is_whole(thing, low=None, high=None)", "common_divisor(one, other)",
+        "make_ratio(top, bottom=1)", "is_ratio(thing)", "as_ratio(thing)", "ratio_plus(one, other)",
+        "ratio_minus(one, other)", "ratio_times(one, other)", "ratio_over(one, other)", "ratio_negative(one)",
+        "ratio_compare(one, other)",
+    ],
+    "moulds": [
+        "is_couple(thing, height, width)", "is_order(thing, many)", "check_letter(mould, letter)",
+        "check_numbers(mould, numbers)",
+    ],
+    "webs": [],
+    "groupings": [
+        "check_grouping(count, grouping, gaps=False)", "groups_many(grouping)", "check_count(count)",
+        "count_groupings(count)", "book_of(grouping)", "all_groupings(count)",
+    ],
+    "asks": [
+        "check_ask(mould, ask, index=0)", "check_book(mould, book)", "answers_many(mould, book)",
+        "span_rows(mould, book)", "book_answers(mould, book, numbers)", "power_asks(kind, length, many)",
+    ],
+    "mouldtext": ["mould_text(mould)", "read_mould(text)"],
+}
+CLASSES = {
+    ("moulds", "Mould"): [
+        "__init__(self, height, width, cells, letters=None)", "letter_at(self, row, column)", "cells_of(self, letter)",
+        "filled(self, numbers)", "with_cell(self, cell)", "with_same(self, cell, other)", "without_cell(self, cell)",
+        "turned(self)", "renamed(self, rows, columns)", "beside(self, other)", "__len__(self)", "__iter__(self)",
+        "__contains__(self, cell)", "__eq__(self, other)",
+    ],
+    ("webs", "Web"): [
+        "__init__(self, points, ties)", "as_mould(self)", "tie_number(self, one, other)", "friends_of(self, point)",
+        "renamed_web(self, order)", "with_tie(self, tie)", "without_tie(self, tie)", "__len__(self)",
+        "__iter__(self)", "__eq__(self, other)",
+    ],
+}
+PROPERTIES = {("moulds", "Mould"): ["free", "letters_many"]}
+GENERATORS = {("groupings", "all_groupings")}
+
+
+def module_of(name):
+    return importlib.import_module("thinslopes." + name)
+
+
+class InterfaceTest(unittest.TestCase):
+    """The names, arguments and places that the section "The interface" lists."""
+
+    def test_functions(self):
+        for module, told in FUNCTIONS.items():
+            for line in told:
+                name = line.split("(")[0]
+                function = vars(module_of(module))[name]
+                self.assertTrue(inspect.isfunction(function), line)
+                self.assertEqual(function.__module__, "thinslopes." + module, line)
+                self.assertEqual(name + str(inspect.signature(function)), line)
+                self.assertIs(inspect.isgeneratorfunction(function), (module, name) in GENERATORS, line)
+
+    def test_methods_stand_in_the_class_itself(self):
+        for (module, name), told in CLASSES.items():
+            owner = vars(module_of(module))[name]
+            self.assertEqual(owner.__module__, "thinslopes." + module)
+            for line in told:
+                method = vars(owner)[line.split("(")[0]]
+                self.assertEqual(line.split("(")[0] + str(inspect.signature(method)), line)
+
+    def test_properties(self):
+        for (module, name), told in PROPERTIES.items():
+            for line in told:
+                self.assertIsInstance(vars(vars(module_of(module))[name])[line], property)
+
+    def test_errors_stand_in_their_file(self):
+        for thing in vars(module_of("errors")).values():
+            if inspect.isclass(thing):
+                self.assertEqual(thing.__module__, "thinslopes.errors")

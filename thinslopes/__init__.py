@@ -1,0 +1,1 @@
+"""thinslopes: thin tables of slopes, known by few products."""
