@@ -23,6 +23,28 @@ FUNCTIONS = {
         "span_rows(mould, book)", "book_answers(mould, book, numbers)", "power_asks(kind, length, many)",
     ],
     "mouldtext": ["mould_text(mould)", "read_mould(text)"],
+    "booktext": ["book_text(mould, book)", "read_book(mould, text)"],
+    "spans": ["rank_of(rows)", "reduced_rows(rows)", "weights_for(rows, row)", "hidden_basis(rows, width)"],
+    "told": [
+        "told_by(mould, book, letter)", "weights_fault(mould, book, letter, weights)",
+        "hidden_fault(mould, book, letter, hidden)", "told_letters(mould, book)", "tells_all(mould, book)",
+        "hidden_all(mould, book)",
+    ],
+    "recover": [
+        "check_answers(mould, book, answers)", "recovered_from(mould, book, answers)",
+        "clash_fault(mould, book, answers, clash)", "gives_book(mould, book, other)", "alike_books(mould, one, other)",
+    ],
+    "wholes": [
+        "whole_told(mould, book, letter)", "whole_fault(mould, book, letter, whole)", "letter_bottoms(mould, book)",
+    ],
+    "rests": [
+        "told_by_rests(mould, book, letter, modulus)", "rest_weights_fault(mould, book, letter, modulus, weights)",
+        "rest_hidden_fault(mould, book, letter, modulus, hidden)", "told_moduli(mould, book, letter)",
+    ],
+    "groups": [
+        "grouped_told(mould, grouping)", "grouped_letters(mould, grouping)", "least_groupings(mould)",
+        "fewest_groups(mould)",
+    ],
 }
 CLASSES = {
     ("moulds", "Mould"): [
@@ -37,8 +59,16 @@ CLASSES = {
         "__iter__(self)", "__eq__(self, other)",
     ],
 }
+RESULTS = {
+    "spans": ["Weights(row)"],
+    "told": ["Hidden(numbers)"],
+    "recover": ["Recovered(numbers, filling)", "Clash(weights)", "Given(rows)", "Parted(answer, numbers)"],
+    "wholes": ["Whole(bottom, weights, numbers)"],
+    "rests": ["RestWeights(row)", "RestHidden(numbers)"],
+    "groups": ["Missing(column)", "Meeting(row, first, second)"],
+}
 PROPERTIES = {("moulds", "Mould"): ["free", "letters_many"]}
-GENERATORS = {("groupings", "all_groupings")}
+GENERATORS = {("groupings", "all_groupings"), ("groups", "least_groupings")}
 
 
 def module_of(name):
@@ -65,6 +95,20 @@ class InterfaceTest(unittest.TestCase):
             for line in told:
                 method = vars(owner)[line.split("(")[0]]
                 self.assertEqual(line.split("(")[0] + str(inspect.signature(method)), line)
+
+    def test_results_keep_the_very_things_that_they_are_given(self):
+        """Point 0.8"""
+        for module, told in RESULTS.items():
+            for line in told:
+                owner = vars(module_of(module))[line.split("(")[0]]
+                self.assertEqual(owner.__module__, "thinslopes." + module, line)
+                self.assertEqual(owner.__name__ + str(inspect.signature(owner)), line)
+                names = list(inspect.signature(owner).parameters)
+                things = [[name] for name in names]
+                for result in (owner(*things), owner(**dict(zip(names, things)))):
+                    self.assertEqual(list(vars(result)), names, line)
+                    for name, thing in zip(names, things):
+                        self.assertIs(getattr(result, name), thing, line)
 
     def test_properties(self):
         for (module, name), told in PROPERTIES.items():

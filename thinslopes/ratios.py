@@ -1,6 +1,6 @@
 """Whole numbers, sequences, and ratios: tuples (top, bottom) in lowest terms with a bottom above 0."""
 
-from math import gcd
+from math import gcd, lcm
 
 from thinslopes.errors import BadRatio
 
@@ -66,6 +66,27 @@ def as_ratio(thing):
     if is_whole(thing):
         return (thing, 1)
     return thing if is_ratio(thing) else None
+
+
+def as_ratios(things, many):
+    """Return a ratio for each of `many` numbers, or None if the things are no sequence of so many numbers."""
+    if not is_sequence(things) or len(things) != many:
+        return None
+    ratios = tuple([as_ratio(thing) for thing in things])
+    return None if None in ratios else ratios
+
+
+def over_one_bottom(ratios):
+    """Return whole numbers and the least bottom above 0 over which they are the ratios."""
+    bottom = 1
+    for ratio in ratios:
+        bottom = lcm(bottom, ratio[1])
+    return [ratio[0] * (bottom // ratio[1]) for ratio in ratios], bottom
+
+
+def are_wholes(things, many):
+    """Tell whether the things are a sequence of `many` whole numbers."""
+    return is_sequence(things) and len(things) == many and all([is_whole(thing) for thing in things])
 
 
 def ratio_plus(one, other):
