@@ -4,7 +4,7 @@ import itertools
 import unittest
 from fractions import Fraction
 
-from thinslopes.errors import BadAnswers, BadAsk, BadLetter
+from thinslopes.errors import BadAnswers, BadAsk, BadGrouping, BadLetter
 from thinslopes.moulds import Mould
 from thinslopes.webs import Web
 
@@ -30,6 +30,16 @@ def numberings(many):
         firsts = sorted(set(letters), key=letters.index)
         if firsts == list(range(len(firsts))):
             found.append(letters)
+    return found
+
+
+def gapped(many):
+    """All groupings of `many` things with gaps, in no certain order."""
+    found = []
+    for kept in itertools.product((False, True), repeat=many):
+        for letters in numberings(sum(kept)):
+            rest = iter(letters)
+            found.append(tuple(next(rest) if there else None for there in kept))
     return found
 
 
@@ -132,6 +142,16 @@ def wrong_answers(many):
         found.append(([0] * (many - 1) + [thing], BadAnswers(many - 1, "number")))
         found.append(((thing,) * many, BadAnswers(0, "number")))
         found.append(([(1, 2), thing, *[None] * (many - 2)], BadAnswers(1, "number")))
+    return found
+
+
+def wrong_groupings(count, gaps=False):
+    """Couples for groupings of `count` things, 2 or more."""
+    found = [(thing, BadGrouping(0)) for thing in (*not_sequences(), [], [1] + [0] * (count - 1), (-1,) * count)]
+    for thing in [*not_wholes(), 2, -1]:
+        if thing is not None or not gaps:
+            found.append(([0, thing] + [0] * (count - 2), BadGrouping(1)))
+    found += [([0] * (count - 1), BadGrouping(count - 1)), ((0,) * (count + 1), BadGrouping(count))]
     return found
 
 

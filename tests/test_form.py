@@ -223,6 +223,82 @@ class FormTest(unittest.TestCase):
             if ast.unparse(node.func) in ("any", "all", "min", "max", "sum", "sorted"):
                 self.none((name, arg.lineno) for arg in node.args if isinstance(arg, ast.GeneratorExp))
 
+    def test_iterated_at_once(self):
+        """L23: ranges, zips, views and generators are not passed on, returned or put into other values."""
+        generators = {node.name for name, node in nodes() if isinstance(node, ast.FunctionDef)
+                      and any(isinstance(part, (ast.Yield, ast.YieldFrom)) for part in ast.walk(node))}
+        allowed = {"list", "tuple", "dict", "sorted", "sum", "min", "max", "any", "all", "enumerate", "zip"}
+        for name, tree in trees().items():
+            fine = set()
+            for node in ast.walk(tree):
+                if isinstance(node, (ast.For, ast.comprehension)):
+                    fine.add(node.iter)
+                if isinstance(node, ast.Call) and ast.unparse(node.func) in allowed:
+                    fine.update(node.args)
+                if isinstance(node, ast.Call) and ast.unparse(node.func) in ("reversed", "len"):
+                    fine.update(arg for arg in node.args if ast.unparse(arg).startswith("range("))
+                if isinstance(node, ast.Compare):
+                    fine.update(arg for arg in node.comparators if ast.unparse(arg).startswith("range("))
+                if isinstance(node, ast.Assign) and ast.unparse(node.value).startswith("range("):
+                    fine.add(node.value)
+            for node in ast.walk(tree):
+                if isinstance(node, ast.Call) and node not in fine:
+                    called = node.func.attr if isinstance(node.func, ast.Attribute) else ast.unparse(node.func)
+                    barred = {"range", "zip", "enumerate", "reversed", "map", "items", "keys", "values", *generators}
+                    self.assertNotIn(called, barred, (name, node.lineno))
+
+    def test_names_of_generators(self):
+        """L23: no other function, method, parameter or variable has the name of a generator."""
+        generators = [node.name for name, node in nodes() if isinstance(node, ast.FunctionDef)
+                      and any(isinstance(part, (ast.Yield, ast.YieldFrom)) for part in ast.walk(node))]
+        bound = [bound for name, node in nodes() if not isinstance(node, ast.ImportFrom) for bound in bound_names(node)]
+        self.none(name for name in generators if bound.count(name) != 1)
+
+    def test_what_a_loop_goes_over_is_not_changed_in_it(self):
+        """L23"""
+        changing = {"append", "extend", "insert", "pop", "remove", "clear", "reverse", "update", "setdefault", "sort"}
+        for name, node in nodes():
+            if isinstance(node, ast.For):
+                parts = [part for part in ast.walk(node.iter) if isinstance(part, (ast.Name, ast.Attribute))]
+                over = {ast.unparse(part) for part in parts}
+                for part in [inner for line in node.body for inner in ast.walk(line)]:
+                    if isinstance(part, ast.Call) and isinstance(part.func, ast.Attribute):
+                        if part.func.attr in changing:
+                            self.assertNotIn(ast.unparse(part.func.value), over, (name, part.lineno))
+                    if isinstance(part, ast.Subscript) and isinstance(part.ctx, (ast.Store, ast.Del)):
+                        self.assertNotIn(ast.unparse(part.value), over - {"len"}, (name, part.lineno))
+
+    def test_sets(self):
+        """L24: no set is stored, passed on or gone through; a set stands in sorted(..) or len(..), or behind in."""
+        for name, tree in trees().items():
+            fine = set()
+            for node in ast.walk(tree):
+                if isinstance(node, ast.Call) and ast.unparse(node.func) in ("sorted", "len"):
+                    fine.update(node.args)
+                if isinstance(node, ast.Compare):
+                    fine.update(node.comparators)
+            for node in ast.walk(tree):
+                is_set = isinstance(node, (ast.Set, ast.SetComp))
+                is_set = is_set or (isinstance(node, ast.Call) and ast.unparse(node.func) in ("set", "frozenset"))
+                self.assertFalse(is_set and node not in fine, (name, getattr(node, "lineno", 0)))
+
+    def test_attributes_that_are_read(self):
+        """L18: some class assigns each of them."""
+        stored = {node.attr for name, node in nodes() if isinstance(node, ast.Attribute)
+                  and isinstance(node.ctx, ast.Store)}
+        known = stored | METHODS | own_names(ast.FunctionDef)
+        self.none((name, node.lineno, node.attr) for name, node in nodes()
+                  if isinstance(node, ast.Attribute) and node.attr not in known)
+
+    def test_calls_pass_what_is_taken(self):
+        """L22: no function of the package is passed as a value but as a key."""
+        functions = own_names(ast.FunctionDef)
+        for name, node in nodes():
+            if isinstance(node, ast.Call):
+                self.none((name, arg.lineno) for arg in node.args if isinstance(arg, ast.Name) and arg.id in functions
+                          and arg.id not in {bound for other in ast.walk(trees()[name]) if isinstance(other, ast.arg)
+                                             or isinstance(other, ast.Name) for bound in bound_names(other)})
+
     def test_operators(self):
         """L20, L27"""
         for name, node in nodes():

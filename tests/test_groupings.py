@@ -1,18 +1,8 @@
 import itertools
 
-from tests.helper import Case, not_sequences, not_wholes, numberings
+from tests.helper import Case, gapped, not_sequences, not_wholes, numberings
 from thinslopes.errors import BadCount, BadGrouping
 from thinslopes.groupings import all_groupings, book_of, check_count, check_grouping, count_groupings, groups_many
-
-
-def with_gaps(many):
-    """All groupings of `many` things with gaps."""
-    found = []
-    for kept in itertools.product((False, True), repeat=many):
-        for letters in numberings(sum(kept)):
-            rest = iter(letters)
-            found.append(tuple(next(rest) if there else None for there in kept))
-    return found
 
 
 class CheckGroupingTest(Case):
@@ -26,7 +16,7 @@ class CheckGroupingTest(Case):
         return None
 
     def test_every_row_of_items(self):
-        for gaps, right in ((False, numberings(4)), (True, with_gaps(4))):
+        for gaps, right in ((False, numberings(4)), (True, gapped(4))):
             for length in range(5):
                 for grouping in itertools.product((None, -1, 0, 1, 2, 3, 4), repeat=length):
                     wrong = self.wrong_at(right, grouping)
@@ -74,7 +64,7 @@ class AllGroupingsTest(Case):
     """Point 1.5: groups_many, check_count, count_groupings, all_groupings and book_of."""
 
     def test_groups_many(self):
-        for grouping in [*numberings(4), *with_gaps(4), (), (None,), (0,)]:
+        for grouping in [*numberings(4), *gapped(4), (), (None,), (0,)]:
             many = len({group for group in grouping if group is not None})
             self.gives(many, groups_many, grouping)
             self.gives(many, groups_many, list(grouping))
@@ -116,7 +106,7 @@ class AllGroupingsTest(Case):
         self.gives((("column", (0, 1, 0)), ("column", (0, 0, 1))), book_of, grouping=(None, 0, 1))
         self.gives((), book_of, ())
         self.gives((), book_of, [None, None])
-        for grouping in [*numberings(5), *with_gaps(4)]:
+        for grouping in [*numberings(5), *gapped(4)]:
             book = book_of(grouping)
             self.assertEqual(len(book), len({group for group in grouping if group is not None}))
             for group, (kind, numbers) in enumerate(book):

@@ -2,7 +2,7 @@ import inspect
 import itertools
 import random
 
-from tests.helper import Case, is_told, lots, not_sequences, not_wholes, numberings, random_mould
+from tests.helper import Case, gapped, is_told, lots, random_mould, wrong_groupings
 from thinslopes.asks import span_rows
 from thinslopes.errors import BadGrouping, NotFree
 from thinslopes.groupings import book_of
@@ -14,16 +14,6 @@ from thinslopes.told import told_letters
 
 SHARED = Mould(2, 2, [(0, 0), (0, 1), (1, 1)], [0, 1, 0])
 ARROW = Mould(3, 3, [(0, 0), (0, 1), (0, 2), (1, 1), (2, 2)])
-
-
-def gapped(many):
-    """All groupings of `many` things with gaps, in no certain order."""
-    found = []
-    for kept in itertools.product((False, True), repeat=many):
-        for letters in numberings(sum(kept)):
-            rest = iter(letters)
-            found.append(tuple(next(rest) if there else None for there in kept))
-    return found
 
 
 def free_moulds():
@@ -102,9 +92,7 @@ class GroupedTest(Case):
                     self.assertTrue(is_told(mould, rows, letter))
 
     def test_wrong_arguments(self):
-        wrong = [(thing, BadGrouping(0)) for thing in [*not_sequences(), [], [1, 0, 0], (-1, 0, 0)]]
-        wrong += [([0, thing, 0], BadGrouping(1)) for thing in not_wholes() if thing is not None]
-        wrong += [([None, 1, 0], BadGrouping(1)), ([0, 2, 1], BadGrouping(1)), ([0, 1], BadGrouping(2)), ((0, 1, 2, 3), BadGrouping(3))]
+        wrong = wrong_groupings(3, True) + [([None, 1, 0], BadGrouping(1)), ([0, 2, 1], BadGrouping(1))]
         for call in (grouped_told, grouped_letters):
             self.refuses_in_order(call, (ARROW, [0, 1, 2]), [(1, wrong)])
 
@@ -140,7 +128,8 @@ class LeastGroupingsTest(Case):
     def test_examples(self):
         self.gives((0, 1, 2), fewest_groups, ARROW)
         self.gives((0, 1, 1), fewest_groups, Mould(2, 3, [(0, 0), (0, 1), (1, 0), (1, 2)]))
-        self.same(list(least_groupings(mould=Mould(2, 4, [(0, 0), (0, 3), (1, 1)]))), [(0, 0, None, 1), (0, 1, None, 1)])
+        mould = Mould(2, 4, [(0, 0), (0, 3), (1, 1)])
+        self.same(list(least_groupings(mould=mould)), [(0, 0, None, 1), (0, 1, None, 1)])
 
     def test_a_mould_without_places(self):
         for width in range(1, 7):

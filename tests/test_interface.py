@@ -45,6 +45,33 @@ FUNCTIONS = {
         "grouped_told(mould, grouping)", "grouped_letters(mould, grouping)", "least_groupings(mould)",
         "fewest_groups(mould)",
     ],
+    "powers": [
+        "fewest_columns(mould)", "power_told(mould, count, letter)", "columns_told(mould, book)",
+        "dependent_lot(mould, book, many)",
+    ],
+    "pieces": [
+        "pieces_between(web, grouping, one, two)", "all_pieces(web, grouping)", "odd_ring(web, piece)",
+        "has_odd_ring(web, piece)", "two_sides(web, piece)",
+    ],
+    "evenwalks": ["walk_filling(web, walk)", "walk_fault(web, grouping, walk)", "walk_through(web, grouping, tie)"],
+    "sidegroups": [
+        "side_told(web, grouping)", "told_ties(web, grouping)", "hidden_many(web, grouping)",
+        "tie_told(web, grouping, tie)", "balance_fault(web, grouping, tie, balance)",
+        "balance_weights(web, grouping, balance)",
+    ],
+    "reading": [
+        "check_letters(mould, letters)", "left_letters(mould, book, answer, known=())", "read_letters(mould, book)",
+        "side_read(web, grouping)",
+    ],
+    "taking": [
+        "taken_wholly(mould, book, known=())", "taken_fault(mould, book, steps, known=())",
+        "is_stuck(mould, book, lot)", "stuck_lots(mould, book)", "fewest_known(mould, book)",
+        "numbers_taken(mould, book, answers)",
+    ],
+    "solving": [
+        "solved_by(mould, book, most)", "lot_size(mould, book)", "letter_ladder(mould, book)",
+        "side_taken(web, grouping)",
+    ],
 }
 CLASSES = {
     ("moulds", "Mould"): [
@@ -52,6 +79,9 @@ CLASSES = {
         "filled(self, numbers)", "with_cell(self, cell)", "with_same(self, cell, other)", "without_cell(self, cell)",
         "turned(self)", "renamed(self, rows, columns)", "beside(self, other)", "__len__(self)", "__iter__(self)",
         "__contains__(self, cell)", "__eq__(self, other)",
+    ],
+    ("taking", "Taking"): [
+        "__init__(self, mould, book, known=())", "left_in(self, answer)", "take(self, letter, answer)",
     ],
     ("webs", "Web"): [
         "__init__(self, points, ties)", "as_mould(self)", "tie_number(self, one, other)", "friends_of(self, point)",
@@ -66,9 +96,18 @@ RESULTS = {
     "wholes": ["Whole(bottom, weights, numbers)"],
     "rests": ["RestWeights(row)", "RestHidden(numbers)"],
     "groups": ["Missing(column)", "Meeting(row, first, second)"],
+    "powers": ["Fewest(count, row)", "Dependent(row, numbers)"],
+    "pieces": ["Piece(points, ties, groups)"],
+    "evenwalks": ["Walk(points, groups)"],
+    "sidegroups": ["Balance(plus, minus, times, groups)"],
+    "taking": ["Taken(steps, turns, missing)"],
+    "solving": ["Solved(steps, letters)", "Ladder(read, taken, solved, told)", "Ring(points)"],
 }
-PROPERTIES = {("moulds", "Mould"): ["free", "letters_many"]}
-GENERATORS = {("groupings", "all_groupings"), ("groups", "least_groupings")}
+PROPERTIES = {
+    ("moulds", "Mould"): ["free", "letters_many"],
+    ("taking", "Taking"): ["steps_taken", "known_letters", "letters_missing"],
+}
+GENERATORS = {("groupings", "all_groupings"), ("groups", "least_groupings"), ("taking", "stuck_lots")}
 
 
 def module_of(name):

@@ -131,7 +131,8 @@ class RecoveredTest(Case):
     def test_eight_asks_and_great_numbers(self):
         chance = random.Random(29)
         book = power_asks("column", 6, 4) + tuple(
-            (kind, tuple(chance.randint(-10 ** 9, 10 ** 9) for _ in range(6))) for kind in ("row", "row", "column", "row")
+            (kind, tuple(chance.randint(-10 ** 9, 10 ** 9) for _ in range(6)))
+            for kind in ("row", "row", "column", "row")
         )
         numbers = [(chance.randint(-99, 99) * 2 + 1, 2 ** (at + 1)) for at in range(36)]
         answers = book_answers(FULL, book, numbers)

@@ -133,7 +133,8 @@ class ToldByRestsTest(Case):
             return (tie[0], web.points) if tie[0] == tie[1] else tie
 
         tie = web.ties[number]
-        others = [ends(other) for at, other in enumerate(web.ties) if at != number and groups_of(other) == groups_of(tie)]
+        others = [ends(other) for at, other in enumerate(web.ties)
+                  if at != number and groups_of(other) == groups_of(tie)]
         reached = {tie[0]}
         for _ in range(web.points + 1):
             reached.update(point for other in others if set(other) & reached for point in other)

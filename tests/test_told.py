@@ -20,7 +20,8 @@ TRIANGLE = Web(3, [(0, 1), (0, 2), (1, 2)]).as_mould()
 ONE_GROUP = book_of((0, 0, 0))
 BOOKS = [
     [], [("column", (1, 1))], [("row", (1, -1))], [("column", (0, 0)), ("row", (0, 0))],
-    [("column", (1, 2)), ("row", (1, 1))], [("column", (2, 0)), ("row", (0, 3))], [("column", (1, 1)), ("column", (1, 2))],
+    [("column", (1, 2)), ("row", (1, 1))], [("column", (2, 0)), ("row", (0, 3))],
+    [("column", (1, 1)), ("column", (1, 2))],
 ]
 
 
