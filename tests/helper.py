@@ -4,7 +4,7 @@ import itertools
 import unittest
 from fractions import Fraction
 
-from thinslopes.errors import BadAnswers, BadAsk, BadGrouping, BadLetter
+from thinslopes.errors import BadAnswers, BadAsk, BadBudget, BadGrouping, BadLetter
 from thinslopes.moulds import Mould
 from thinslopes.webs import Web
 
@@ -153,6 +153,17 @@ def wrong_groupings(count, gaps=False):
             found.append(([0, thing] + [0] * (count - 2), BadGrouping(1)))
     found += [([0] * (count - 1), BadGrouping(count - 1)), ((0,) * (count + 1), BadGrouping(count))]
     return found
+
+
+def wrong_budgets():
+    found = [(thing, BadBudget("couple")) for thing in [*not_sequences(), [], (1,), [1, 2, 3]]]
+    found += [((thing, None), BadBudget("columns")) for thing in [*not_wholes(), -1, 7]]
+    found += [([6, thing], BadBudget("rows")) for thing in [*not_wholes(), -1, 7]]
+    return found + [(thing, BadBudget("many")) for thing in ((6, 3), [3, 6], (4, 5), (6, 6))]
+
+
+def random_free(chance, height, width, places=None):
+    return random_mould(chance, height, width, False, places)
 
 
 # Things that are neither a whole number nor a ratio.

@@ -72,6 +72,28 @@ FUNCTIONS = {
         "solved_by(mould, book, most)", "lot_size(mould, book)", "letter_ladder(mould, book)",
         "side_taken(web, grouping)",
     ],
+    "cores": [
+        "check_budget(budget)", "check_lines(mould, order)", "plain_order(mould)",
+        "core_of(mould, budget, order=None)", "strikes_fault(mould, budget, strikes)",
+    ],
+    "powerbooks": [
+        "both_book(mould, budget)", "powers_tell(mould, budget)", "struck_numbers(mould, budget, answers, order=None)",
+    ],
+    "blocks": [
+        "block_most(budget, rows_many, columns_many)", "floor_block(mould, budget)",
+        "block_fault(mould, budget, block)", "hidden_in_block(mould, block_rows, block_columns, book)",
+    ],
+    "bothbounds": ["both_bounds(mould)"],
+    "bothgroups": [
+        "groups_book(mould, row_groups, column_groups)", "unread_cell(mould, row_groups, column_groups)",
+        "told_by_both(mould, row_groups, column_groups)", "both_told(mould, row_groups, column_groups)",
+        "chain_fault(mould, row_groups, column_groups, chain)",
+    ],
+    "bothleast": ["all_gapped(count)", "fewest_read_by_both(mould)", "fewest_told_by_both(mould)"],
+    "fewest": [
+        "holds_way(web, way, grouping)", "fewest_by(web, way)", "fewest_three(web)",
+        "fewest_fault(web, way, grouping)", "all_fewest(web, way)",
+    ],
 }
 CLASSES = {
     ("moulds", "Mould"): [
@@ -102,12 +124,21 @@ RESULTS = {
     "sidegroups": ["Balance(plus, minus, times, groups)"],
     "taking": ["Taken(steps, turns, missing)"],
     "solving": ["Solved(steps, letters)", "Ladder(read, taken, solved, told)", "Ring(points)"],
+    "cores": ["Core(strikes, cells)"],
+    "blocks": ["Block(rows, columns, places, most)"],
+    "bothbounds": ["Bounds(low, low_budget, blocks, high, high_budget, cored, cored_budget)"],
+    "bothgroups": ["Chain(cells)"],
+    "bothleast": ["LeastBoth(row_groups, column_groups, many)"],
+    "fewest": ["FewestGroups(groups, first, many)"],
 }
 PROPERTIES = {
     ("moulds", "Mould"): ["free", "letters_many"],
     ("taking", "Taking"): ["steps_taken", "known_letters", "letters_missing"],
 }
-GENERATORS = {("groupings", "all_groupings"), ("groups", "least_groupings"), ("taking", "stuck_lots")}
+GENERATORS = {
+    ("groupings", "all_groupings"), ("groups", "least_groupings"), ("taking", "stuck_lots"),
+    ("bothleast", "all_gapped"), ("fewest", "all_fewest"),
+}
 
 
 def module_of(name):

@@ -2,7 +2,7 @@
 
 from thinslopes.errors import BadAsk
 from thinslopes.moulds import check_numbers
-from thinslopes.ratios import ZERO, is_sequence, is_whole, ratio_plus, ratio_times
+from thinslopes.ratios import ZERO, is_sequence, is_whole, ratio_minus, ratio_plus, ratio_times
 
 KINDS = ("column", "row")
 MOST_ASKS = 8
@@ -59,6 +59,14 @@ def row_sum(row, ratios):
     for times, ratio in zip(row, ratios):
         total = ratio_plus(total, ratio_times((times, 1), ratio))
     return total
+
+
+def less_known(row, answer, numbers):
+    """Return the answer less the sum of the letters that have a number."""
+    for times, number in zip(row, numbers):
+        if times != 0 and number is not None:
+            answer = ratio_minus(answer, ratio_times((times, 1), number))
+    return answer
 
 
 def book_answers(mould, book, numbers):

@@ -1,4 +1,6 @@
-"""Lots of things, gone through in order."""
+"""Lots: ascending sequences of unlike things."""
+
+from thinslopes.ratios import is_sequence, is_whole
 
 
 def lots_of(things, many):
@@ -7,3 +9,10 @@ def lots_of(things, many):
     for _ in range(many):
         lots = [((*lot, things[at]), at + 1) for lot, start in lots for at in range(start, len(things))]
     return [lot for lot, _ in lots]
+
+
+def is_lot(thing, many):
+    """Tell whether a thing of any kind is a strictly ascending sequence of numbers from 0, below `many`."""
+    if not is_sequence(thing) or not all([is_whole(number, 0, many - 1) for number in thing]):
+        return False
+    return all([before < number for before, number in zip(thing, thing[1:])])

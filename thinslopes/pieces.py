@@ -87,7 +87,7 @@ def two_sides(web, piece):
                     waiting.append(other)
                 elif sides[other] == sides[point]:
                     return None
-    return tuple([tuple([point for point in piece.points if sides[point] == side]) for side in (0, 1)])
+    return tuple([tuple([end for end in piece.points if sides[end] == side]) for side in (0, 1)])
 
 
 def has_odd_ring(web, piece):

@@ -1,10 +1,10 @@
 """Letters taken away one by one, each by an answer in which all others are known; and the lots that get stuck."""
 
-from thinslopes.asks import span_rows
+from thinslopes.asks import less_known, span_rows
 from thinslopes.errors import CantTake, TooMany
 from thinslopes.lots import lots_of
 from thinslopes.moulds import check_letter
-from thinslopes.ratios import is_sequence, is_whole, ratio_minus, ratio_over, ratio_times
+from thinslopes.ratios import is_sequence, is_whole, ratio_over
 from thinslopes.reading import check_answer_number, check_letters, held_letters, without_known
 from thinslopes.recover import answer_ratios
 
@@ -150,9 +150,6 @@ def numbers_taken(mould, book, answers):
     ratios = answer_ratios(answers, len(rows))
     numbers = [None] * mould.letters_many
     for letter, answer in taken_from(held_letters(rows), mould.letters_many, ()).steps:
-        left = ratios[answer]
-        for other, times in enumerate(rows[answer]):
-            if times != 0 and other != letter:
-                left = ratio_minus(left, ratio_times((times, 1), numbers[other]))
+        left = less_known(rows[answer], ratios[answer], numbers)
         numbers[letter] = ratio_over(left, (rows[answer][letter], 1))
     return tuple(numbers)
