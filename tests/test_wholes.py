@@ -1,5 +1,6 @@
 import itertools
 import random
+from math import gcd
 
 from tests.helper import (
     NO_NUMBERS, Case, all_moulds, all_webs, as_fraction, is_told, not_sequences, not_wholes, random_book, random_mould,
@@ -11,7 +12,7 @@ from thinslopes.moulds import Mould
 from thinslopes.ratios import is_ratio
 from thinslopes.told import Hidden, hidden_fault, told_letters
 from thinslopes.webs import Web
-from thinslopes.wholes import Whole, letter_bottoms, whole_fault, whole_told
+from thinslopes.wholes import Whole, letter_bottoms, times_for_bottom, whole_fault, whole_told
 
 TRIANGLE = Web(3, [(0, 1), (0, 2), (1, 2)]).as_mould()
 ONE_GROUP = book_of((0, 0, 0))
@@ -122,6 +123,16 @@ class WholeToldTest(Case):
                 if bottom > 1:
                     filling = whole_told(mould, book, letter).numbers
                     self.assertTrue(all(answer[1] == 1 for answer in book_answers(mould, book, filling)))
+
+    def test_times_that_share_no_divisor_with_the_bottom(self):
+        """What the filling of a Whole rests on: the numbers, so many times each, fit the bottom."""
+        chance = random.Random(44)
+        for _ in range(300):
+            bottom = chance.choice((1, 2, 6, 12, 30, 60, 210, 2310))
+            numbers = [chance.randint(-60, 60) for _ in range(chance.randint(1, 5))]
+            if gcd(bottom, *numbers) == 1:
+                made = sum(time * number for time, number in zip(times_for_bottom(numbers, bottom), numbers))
+                self.assertEqual(gcd(made, bottom), 1)
 
     def test_wrong_arguments(self):
         wrong = [(1, wrong_books(TRIANGLE)), (2, wrong_letters(TRIANGLE))]

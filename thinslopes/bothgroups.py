@@ -93,23 +93,15 @@ def told_by_both(mould, row_groups, column_groups):
     return tuple(told)
 
 
-def from_none(ends, ring):
-    """Turn a ring of places so that, if it passes None, it does so between its last place and its first one."""
-    at = 0
-    for index, number in enumerate(ring):
-        before = ring[index - 1]
-        if None in ends[number] and None in ends[before]:
-            at = index
-    return [*ring[at:], *ring[:at]]
-
-
 def first_chain(mould, rows, columns):
     """Return the places of a chain, or None."""
     ends = ends_of_places(mould, rows, columns)
     for letter, (one, other) in enumerate(ends):
         path = path_between(ends, list(range(letter)), one, other)
         if path is not None:
-            return tuple([mould.cells[number] for number in from_none(ends, [*path, letter])])
+            # A ring through None is in order, too: a place in a single answer shares it with such places alone, so
+            # that ring has one place or two.
+            return tuple([mould.cells[number] for number in [*path, letter]])
     return None
 
 

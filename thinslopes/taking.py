@@ -1,6 +1,6 @@
 """Letters taken away one by one, each by an answer in which all others are known; and the lots that get stuck."""
 
-from thinslopes.asks import less_known, span_rows
+from thinslopes.asks import check_book, less_known, span_rows
 from thinslopes.errors import CantTake, TooMany
 from thinslopes.lots import lots_of
 from thinslopes.moulds import check_letter
@@ -20,11 +20,10 @@ class Taken:
 
 class Taking:
     def __init__(self, mould, book, known=()):
-        rows = span_rows(mould, book)
-        self.known = check_letters(mould, known)
         self.mould = mould
-        self.book = tuple([(kind, tuple(numbers)) for kind, numbers in book])
-        self._held = held_letters(rows)
+        self.book = check_book(mould, book)
+        self.known = check_letters(mould, known)
+        self._held = held_letters(span_rows(mould, self.book))
         self._now_known = list(self.known)
         self._steps = []
 
