@@ -87,6 +87,12 @@ class WholeToldTest(Case):
                 seen.update(self.judged(web.as_mould(), book_of(grouping)))
         self.assertEqual(seen, {0, 1, 2})
 
+    def test_the_halves_of_a_triangle(self):
+        for tie, weights in enumerate(((1, 1, -1), (1, -1, 1), (-1, 1, 1))):
+            whole = self.taken(whole_told, TRIANGLE, ONE_GROUP, tie)
+            self.same((whole.bottom, whole.weights), (2, weights))
+            self.assertEqual([number[1] for number in whole.numbers], [2, 2, 2])
+
     def test_no_letters_and_no_asks(self):
         self.gives((), letter_bottoms, Mould(2, 2, []), [("column", (1, 2))])
         self.gives((), letter_bottoms, Mould(2, 2, []), [])

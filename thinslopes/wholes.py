@@ -120,7 +120,8 @@ class Sums:
         found = filling_for(self.basis, times_for_bottom(times, bottom))
         filling = [ZERO] * width
         for lead, ratio in zip(self.leads, found):
-            filling[lead] = ratio
+            # Whole numbers less leave the answers whole and the bottoms as they are, and keep the tops small.
+            filling[lead] = (ratio[0] % ratio[1], ratio[1])
         return tuple(filling)
 
 
