@@ -94,6 +94,30 @@ FUNCTIONS = {
         "holds_way(web, way, grouping)", "fewest_by(web, way)", "fewest_three(web)",
         "fewest_fault(web, way, grouping)", "all_fewest(web, way)",
     ],
+    "floors": [
+        "side_floor(web, count)", "least_floor(web)", "side_hidden(web, points, book)", "web_core(web, count)",
+        "web_core_fault(web, count, strikes)", "least_powers(web)",
+    ],
+    "sidebounds": ["side_bounds(web)"],
+    "plans": [
+        "check_plan(mould, plan)", "play_plan(mould, plan, numbers)", "plan_book(mould, plan, path)",
+        "zero_book(mould, plan)",
+    ],
+    "branches": [
+        "plan_branches(mould, plan)", "branch_fault(mould, plan, branch)", "plan_letters(mould, plan)",
+        "plan_told(mould, plan)", "untold_fault(mould, plan, untold)", "plan_counts(mould, plan)",
+        "plan_recovered(mould, plan, answers)",
+    ],
+    "lost": [
+        "lost_told(mould, book, letter, most)", "lost_fault(mould, book, letter, lost)",
+        "least_loss(mould, book, letter)", "wrong_told(mould, book, letter, most)",
+        "mended_answers(mould, book, answers, most)",
+    ],
+    "strangers": [
+        "off_cells(mould)", "answers_with(mould, book, numbers, strangers)", "seen_strangers(mould, book, most)",
+        "found_strangers(mould, book, most)", "explained_by(mould, book, answers, most)",
+    ],
+    "polys": ["check_values(many, values)"],
 }
 CLASSES = {
     ("moulds", "Mould"): [
@@ -109,6 +133,10 @@ CLASSES = {
         "__init__(self, points, ties)", "as_mould(self)", "tie_number(self, one, other)", "friends_of(self, point)",
         "renamed_web(self, order)", "with_tie(self, tie)", "without_tie(self, tie)", "__len__(self)",
         "__iter__(self)", "__eq__(self, other)",
+    ],
+    ("polys", "Poly"): [
+        "__init__(self, many, terms)", "value_at(self, values)", "slope_by(self, entry)", "__add__(self, other)",
+        "__sub__(self, other)", "__mul__(self, other)", "__eq__(self, other)",
     ],
 }
 RESULTS = {
@@ -130,6 +158,15 @@ RESULTS = {
     "bothgroups": ["Chain(cells)"],
     "bothleast": ["LeastBoth(row_groups, column_groups, many)"],
     "fewest": ["FewestGroups(groups, first, many)"],
+    "floors": ["SideLot(points, ties, most)", "WebCore(strikes, ties)"],
+    "sidebounds": ["SideBounds(low, bars, high, book)"],
+    "plans": ["Played(path, answers)"],
+    "branches": ["Come(path, book, filling)", "Never(path, answer, weights)", "Untold(path, filling, hidden)"],
+    "lost": ["Lost(answers, numbers)", "Mended(wrong, answers, numbers)", "Worse(most)"],
+    "strangers": [
+        "Unseen(numbers, strangers)", "Filled(numbers, strangers)", "Twice(first, second)",
+        "Explained(strangers, numbers)",
+    ],
 }
 PROPERTIES = {
     ("moulds", "Mould"): ["free", "letters_many"],
@@ -137,7 +174,7 @@ PROPERTIES = {
 }
 GENERATORS = {
     ("groupings", "all_groupings"), ("groups", "least_groupings"), ("taking", "stuck_lots"),
-    ("bothleast", "all_gapped"), ("fewest", "all_fewest"),
+    ("bothleast", "all_gapped"), ("fewest", "all_fewest"), ("branches", "plan_branches"),
 }
 
 

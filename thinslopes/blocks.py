@@ -6,7 +6,7 @@ from thinslopes.errors import BadBlock
 from thinslopes.groups import check_free
 from thinslopes.lots import is_lot, lots_of
 from thinslopes.ratios import is_whole
-from thinslopes.spans import hidden_basis
+from thinslopes.told import hidden_on
 
 
 class Block:
@@ -80,11 +80,4 @@ def hidden_in_block(mould, block_rows, block_columns, book):
         raise BadBlock("columns")
     rows = span_rows(mould, book)
     check_free(mould)
-    letters = letters_within(mould, block_rows, block_columns)
-    basis = hidden_basis([[row[letter] for letter in letters] for row in rows], len(letters))
-    if not basis:
-        return None
-    numbers = [0] * mould.letters_many
-    for letter, number in zip(letters, basis[0]):
-        numbers[letter] = number
-    return tuple(numbers)
+    return hidden_on(rows, letters_within(mould, block_rows, block_columns), mould.letters_many)

@@ -16,3 +16,8 @@ def is_lot(thing, many):
     if not is_sequence(thing) or not all([is_whole(number, 0, many - 1) for number in thing]):
         return False
     return all([before < number for before, number in zip(thing, thing[1:])])
+
+
+def has_part(lot, parts):
+    """Tell whether one of the parts, which are lots too, has no thing that the lot lacks."""
+    return any([all([thing in lot for thing in part]) for part in parts])

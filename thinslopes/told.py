@@ -24,6 +24,17 @@ def first_hidden(basis, letter):
     return None
 
 
+def hidden_on(rows, letters, many):
+    """Return a filling of `many` letters, hidden from the rows, that is not 0 at these letters alone, or None."""
+    basis = hidden_basis([[row[letter] for letter in letters] for row in rows], len(letters))
+    if not basis:
+        return None
+    numbers = [0] * many
+    for letter, number in zip(letters, basis[0]):
+        numbers[letter] = number
+    return tuple(numbers)
+
+
 def told_by(mould, book, letter):
     rows = span_rows(mould, book)
     many = mould.letters_many
