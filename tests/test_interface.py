@@ -118,6 +118,32 @@ FUNCTIONS = {
         "found_strangers(mould, book, most)", "explained_by(mould, book, answers, most)",
     ],
     "polys": ["check_values(many, values)"],
+    "programs": [
+        "spot_numbers(program, values)", "result_numbers(program, values)", "spot_polys(program)",
+        "chained_program(first, second)",
+    ],
+    "slopes": [
+        "slope_polys(program)", "table_at(program, values)", "shown_at(program, result, entry)",
+        "program_mould(program, *, shared=False)", "mould_by_steps(program)", "ways_of(program, result, entry)",
+    ],
+    "runs": [
+        "forward_run(program, values, column)", "backward_run(program, values, row)",
+        "forward_program(program, column)", "backward_program(program, row)",
+    ],
+    "gained": [
+        "run_answers(program, values, book)", "table_by_runs(program, values, book, mould=None)",
+        "told_always(program, book, result, entry)",
+    ],
+    "seconds": [
+        "second_polys(program, result)", "second_at(program, values, result)", "program_web(program, result)",
+        "web_by_steps(program, result)", "bent_run(program, values, result, column)",
+        "bent_table(program, values, result, grouping)", "result_parts(program, result)",
+    ],
+    "edits": ["check_pool(mould, book, pool)", "edited(mould, book, edits)"],
+    "mends": [
+        "check_goal(mould, goal)", "goal_met(mould, book, goal)", "find_mends(mould, book, pool, goal)",
+        "find_spoilers(mould, book, pool, goal)",
+    ],
 }
 CLASSES = {
     ("moulds", "Mould"): [
@@ -137,6 +163,11 @@ CLASSES = {
     ("polys", "Poly"): [
         "__init__(self, many, terms)", "value_at(self, values)", "slope_by(self, entry)", "__add__(self, other)",
         "__sub__(self, other)", "__mul__(self, other)", "__eq__(self, other)",
+    ],
+    ("programs", "Program"): ["__init__(self, entries, steps, results)", "__eq__(self, other)"],
+    ("bench", "Bench"): [
+        "__init__(self, mould, book)", "change(self, *edits)", "put_answers(self, numbers)", "take_back(self)",
+        "known_table(self)", "is_met(self, goal)", "trial(self, *edits, goal)",
     ],
 }
 RESULTS = {
@@ -167,14 +198,20 @@ RESULTS = {
         "Unseen(numbers, strangers)", "Filled(numbers, strangers)", "Twice(first, second)",
         "Explained(strangers, numbers)",
     ],
+    "runs": ["Run(spots, slopes, answer, products)"],
+    "gained": ["RunTable(rows, products)", "Apart(terms)"],
+    "seconds": ["Bent(spots, along, back, bends, answer, products)", "Parts(base, lots)"],
 }
 PROPERTIES = {
     ("moulds", "Mould"): ["free", "letters_many"],
     ("taking", "Taking"): ["steps_taken", "known_letters", "letters_missing"],
+    ("programs", "Program"): ["spots_many", "times_many"],
+    ("bench", "Bench"): ["now_mould", "now_book", "now_answers", "done_log"],
 }
 GENERATORS = {
     ("groupings", "all_groupings"), ("groups", "least_groupings"), ("taking", "stuck_lots"),
     ("bothleast", "all_gapped"), ("fewest", "all_fewest"), ("branches", "plan_branches"),
+    ("slopes", "ways_of"),
 }
 
 

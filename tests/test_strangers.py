@@ -109,6 +109,12 @@ class OffCellsTest(Case):
         wrong = [(1, wrong_books(SMALL)), (2, numbers), (3, strangers)]
         self.refuses_in_order(answers_with, (SMALL, [COLUMN], (0, 0, 0), []), wrong)
 
+    def test_each_cell_is_above_the_one_before(self):
+        empty = Mould(2, 2, [])
+        for cells, index in (((0, 2, 1), 2), ((0, 1, 1), 2), ((1, 3, 2), 2), ((0, 2, 3, 0), 3)):
+            strangers = [((at // 2, at % 2), 1) for at in cells]
+            self.refuses(BadStranger(index), answers_with, empty, (), (), strangers)
+
     def test_it_has_no_bound(self):
         self.gives(((1, 1),) * 4, answers_with, THIRTEEN_OFF, [("row", (1, 1, 1, 1))], (1, 1, 1), [((3, 3), 1)])
 
@@ -194,6 +200,13 @@ class FoundStrangersTest(Case):
         self.gives(None, found_strangers, most=2, book=[("row", (1,))], mould=Mould(1, 1, []))
         twice = found_strangers(Mould(1, 1, []), [], 1)
         self.check_twice(Mould(1, 1, []), [], 1, twice)
+
+    def test_just_twice_as_many_have_to_be_seen(self):
+        for most in (1, 2):
+            empty, book = Mould(1, 6, []), power_asks("column", 6, 2 * most)
+            self.gives(None, seen_strangers, empty, book, 2 * most)
+            self.gives(None, found_strangers, empty, book, most)
+            self.check_twice(empty, book[1:], most, found_strangers(empty, book[1:], most))
 
     def test_errors(self):
         wrong = [(1, wrong_books(SMALL)), (2, WRONG_MOST[2])]

@@ -3,7 +3,7 @@
 from thinslopes.asks import MOST_ASKS, answers_of_kind, ask_rows, check_ask, row_sum
 from thinslopes.errors import BadAsk, BadPath, BadPlan
 from thinslopes.moulds import check_numbers
-from thinslopes.ratios import ZERO, is_sequence, is_whole
+from thinslopes.ratios import ZERO, is_sequence, is_whole, is_worded
 
 MOST_PARTS = 15
 LENGTHS = {"ask": 3, "if": 4, "end": 1}
@@ -13,12 +13,6 @@ class Played:
     def __init__(self, path, answers):
         self.path = path
         self.answers = answers
-
-
-def is_part(thing):
-    if not is_sequence(thing) or len(thing) == 0 or not isinstance(thing[0], str):
-        return False
-    return LENGTHS.get(thing[0]) == len(thing)
 
 
 def checked_ask(mould, ask, asks, path):
@@ -40,7 +34,7 @@ def checked_part(mould, part, path, asks, paths):
     paths.append(path)
     if len(paths) > MOST_PARTS:
         raise BadPlan(path, "many")
-    if not is_part(part):
+    if not is_worded(part, dict(LENGTHS)):
         raise BadPlan(path, "kind")
     if part[0] == "end":
         return ("end",)

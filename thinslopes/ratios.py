@@ -18,6 +18,13 @@ def is_whole(thing, low=None, high=None):
     return (low is None or low <= thing) and (high is None or thing <= high)
 
 
+def is_worded(thing, lengths):
+    """Tell whether a thing is a sequence that begins with a word and has as many items as `lengths` has for it."""
+    if not is_sequence(thing) or len(thing) == 0 or not isinstance(thing[0], str):
+        return False
+    return lengths.get(thing[0]) == len(thing)
+
+
 def unshared(thing):
     """Return a list as a tuple, any other thing as it is."""
     # An error bears what was passed in; it must not change when the caller's list does.

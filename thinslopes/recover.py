@@ -84,6 +84,17 @@ def clash_fault(mould, book, answers, clash):
     return "answers" if row_sum(tops, weights) == ZERO else None
 
 
+def known_at(mould, numbers, row, column):
+    letter = mould.letter_at(row, column)
+    return ZERO if letter is None else numbers[letter]
+
+
+def known_rows(mould, numbers):
+    """Return the table in which each place has the number of its letter, None if that is not known."""
+    columns = list(range(mould.width))
+    return tuple([tuple([known_at(mould, numbers, row, at) for at in columns]) for row in range(mould.height)])
+
+
 def gives_book(mould, book, other):
     rows = span_rows(mould, book)
     asked = span_rows(mould, other)
