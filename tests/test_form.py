@@ -138,6 +138,26 @@ class FormTest(unittest.TestCase):
                     bound.extend(bound_names(node))
             self.assertEqual(len(bound), len(set(bound)), name)
 
+    def test_lists_and_dicts_at_module_level_are_only_read(self):
+        """L15: by an index, by a method that reads, by `in`, or copied."""
+        for name, tree in trees().items():
+            kept = {node.targets[0].id for node in tree.body if isinstance(node, ast.Assign)
+                    and isinstance(node.value, (ast.List, ast.Dict))}
+            fine = set()
+            for node in ast.walk(tree):
+                if isinstance(node, ast.Subscript) and isinstance(node.ctx, ast.Load):
+                    fine.add(node.value)
+                if isinstance(node, ast.Attribute) and node.attr in ("get", "items", "keys", "values", "index", "count"):
+                    fine.add(node.value)
+                if isinstance(node, ast.Call) and ast.unparse(node.func) in ("dict", "list", "len", "sorted"):
+                    fine.update(node.args)
+                if isinstance(node, ast.Compare):
+                    fine.update(node.comparators)
+                if isinstance(node, (ast.For, ast.comprehension)):
+                    fine.add(node.iter)
+            self.none((name, node.lineno, node.id) for node in ast.walk(tree) if isinstance(node, ast.Name)
+                      and node.id in kept and isinstance(node.ctx, ast.Load) and node not in fine)
+
     def test_imports(self):
         """L2, L16"""
         known = trees()

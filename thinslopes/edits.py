@@ -14,7 +14,8 @@ def are_cells_for(mould, edit):
         return is_couple(edit[1], mould.height, mould.width) and edit[1] not in mould
     if not all([cell in mould for cell in edit[1:]]):
         return False
-    return edit[0] == "drop" or mould.letter_at(*edit[1]) != mould.letter_at(*edit[2])
+    letters = mould.letters_by_place()
+    return edit[0] == "drop" or letters[tuple(edit[1])] != letters[tuple(edit[2])]
 
 
 def checked_edit(mould, book, index, edit):

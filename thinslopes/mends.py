@@ -35,7 +35,7 @@ def check_few_for(mould, asks, goal):
 
 def is_cell_sure(mould, book, cell, most):
     """Tell whether the cell is a place whose letter is told though any so many answers are lost."""
-    letter = mould.letter_at(*cell)
+    letter = mould.letters_by_place().get(cell)
     if letter is None:
         return False
     return first_loss(span_rows(mould, book), mould.letters_many, letter, most) is None
